@@ -1,0 +1,80 @@
+"""What the tests share: small standings, and the words of the document as plain slow functions."""
+
+from itertools import product
+
+from retinue.beads import Beads
+
+LENGTHS = {
+    1: [(1,), (3,)],
+    2: [(1, 1), (2, 1), (1, 3)],
+    3: [(1, 1, 1), (2, 1, 1), (1, 2, 3)],
+    4: [(1, 1, 1, 1), (1, 2, 1, 3), (3, 1, 1, 1)],
+}
+
+
+def standings(most=4, strengths=(0, 1, 2, 3), kinds=(True, False)):
+    """Yield rings and rows of up to so many beads with these strengths."""
+    for many in range(1, most + 1):
+        for row in product(strengths, repeat=many):
+            for lengths in LENGTHS[many]:
+                for ring in kinds:
+                    yield Beads(row, lengths, ring=ring)
+
+
+def handfuls(many):
+    """Yield all handfuls of so many places, as ascending tuples."""
+    for chosen in product((False, True), repeat=many):
+        yield tuple(place for place in range(many) if chosen[place])
+
+
+def slow_run(beads, place):
+    """The run after the bead: one step after the other until nothing or the bead itself comes."""
+    run = []
+    at = place
+    while True:
+        at += 1
+        if at == len(beads.strengths):
+            if not beads.ring:
+                return run
+            at = 0
+        if at == place:
+            return run
+        run.append(at)
+
+
+def slow_train(beads, place):
+    """The longest beginning of the run in which every bead is weaker."""
+    run = slow_run(beads, place)
+    beginnings = [run[:k] for k in range(len(run) + 1)]
+    return [b for b in beginnings if all(beads.strengths[q] < beads.strengths[place] for q in b)][-1]
+
+
+def slow_reach(beads, place):
+    return sum(beads.lengths[q] for q in [place] + slow_train(beads, place))
+
+
+def slow_wake(beads, handful):
+    """The strengths after the handful has woken."""
+    return tuple(slow_reach(beads, p) if p in handful else s for p, s in enumerate(beads.strengths))
+
+
+def slow_span(beads, place):
+    """The span of the bead as a list of places, or None."""
+    run = [place] + slow_run(beads, place)
+    for many in range(1, len(run) + 1):
+        if sum(beads.lengths[q] for q in run[:many]) == beads.strengths[place]:
+            return run[:many]
+    return None
+
+
+def attributes(error):
+    """The kind of an error and its attributes."""
+    return [error.__class__.__name__, vars(error)]
+
+
+def raised(test, kind, call, *args, **more):
+    """Check that the call raises exactly this kind of error and return its attributes as a dict."""
+    with test.assertRaises(kind) as caught:
+        call(*args, **more)
+    test.assertIs(caught.exception.__class__, kind)
+    return vars(caught.exception)
