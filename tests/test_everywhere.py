@@ -1,0 +1,148 @@
+"""What holds for the whole program: points 1 and 4, and the examples of the interface."""
+
+import copy
+import unittest
+
+from retinue.arcs import arc_length, cuttings, least_arc, resting_cut, settled_cut
+from retinue.back import last_wakers, strengths_before
+from retinue.beads import Beads
+from retinue.forest import origin_of, outcome_fault
+from retinue.starts import is_level, is_low
+from retinue.sweeps import sweep_row
+from retinue.tally import compare_tallies, tally_of, touched
+from retinue.trains import (leaders_of, lords_of, reach_of, reaches, stopper_of, train_of)
+from retinue.waking import (at_rest, changes_of, hungry, restless, run_order, unwind, wake,
+                            wake_all)
+from retinue.web import (Web, settle_web, told_to, wake_web, web_changes, web_of, web_tally)
+
+RING = Beads([0, 5, 1, 2], [1, 2, 1, 2])
+ROW = Beads([0, 5, 1, 2], [1, 2, 1, 2], ring=False)
+REST = Beads([2, 1, 2, 1])
+OUTCOME = Beads([3, 1, 1], ring=False)
+LOG = run_order(RING, [[0], [3, 1, 1], []])[1]
+WEB = web_of(RING)
+LOOK = ["all", [["sum", 1, [(0, 2)]], ("run", 1, ((0, 2),))]]
+
+CALLS = [
+    (Beads, [3, 1], [1, 2]), (RING.total,), (RING.greatest,), (RING.with_strength, 1, 4), (RING.as_row, 2),
+    (train_of, RING, 1), (reach_of, RING, 1), (stopper_of, RING, 1), (reaches, RING), (lords_of, RING),
+    (leaders_of, ROW), (outcome_fault, RING), (origin_of, OUTCOME), (changes_of, RING, [3, 0, 3]),
+    (changes_of, RING, (3, 0, 3)), (wake, RING, [3, 0, 3]), (wake_all, RING), (restless, RING),
+    (hungry, RING), (at_rest, RING), (run_order, RING, [[2, 0, 0], (1,), []]), (run_order, RING, ((2, 0, 0), [1])),
+    (unwind, run_order(RING, [[0], [3, 1, 1], []])[0], LOG), (tally_of, RING),
+    (compare_tallies, [(0, 1), (4, 2)], [(4, 2), (5, 1)]), (touched, RING, [3, 0, 3]),
+    (strengths_before, REST, 0), (last_wakers, REST), (Web, [LOOK], [3]), (told_to, WEB, 1),
+    (web_changes, WEB, [3, 0, 3]), (wake_web, WEB, [3, 0, 3]), (web_tally, WEB), (settle_web, WEB),
+    (web_of, RING), (sweep_row, ROW), (cuttings, REST), (arc_length, REST, [0, 2]), (settled_cut, REST),
+    (resting_cut, REST), (least_arc, REST), (is_low, RING), (is_level, RING),
+]
+
+
+def plain(value):
+    """The value with standings and webs as dicts, and lists and tuples kept apart."""
+    if isinstance(value, (Beads, Web)):
+        return {name: plain(worth) for name, worth in vars(value).items()}
+    if isinstance(value, (list, tuple)):
+        return (value.__class__.__name__, [plain(item) for item in value])
+    return value
+
+
+def spoil(value):
+    """Change every list within the value."""
+    if isinstance(value, (list, tuple)):
+        for item in value:
+            spoil(item)
+    if isinstance(value, list):
+        value.append("spoiled")
+        value.reverse()
+
+
+class Everywhere(unittest.TestCase):
+    def test_what_is_passed_stays(self):
+        for call, *args in CALLS:
+            with self.subTest(call=call, args=args):
+                before = copy.deepcopy(plain(args))
+                call(*args)
+                self.assertEqual(plain(args), before)
+
+    def test_what_was_returned_may_be_changed(self):
+        for call, *args in CALLS:
+            with self.subTest(call=call, args=args):
+                first = call(*args)
+                before = copy.deepcopy(plain(first))
+                holders = copy.deepcopy([plain(args), plain(RING), plain(WEB)])
+                spoil(first)
+                self.assertEqual([plain(args), plain(RING), plain(WEB)], holders)
+                self.assertEqual(plain(call(*args)), before)
+
+    def test_a_list_and_a_tuple_are_taken_alike(self):
+        for call, *args in CALLS:
+            if call in (unwind, compare_tallies):
+                continue
+            turned = [tuple(arg) if isinstance(arg, list) else list(arg) if isinstance(arg, tuple) else arg
+                      for arg in args]
+            with self.subTest(call=call, args=turned):
+                self.assertEqual(plain(call(*turned)), plain(call(*args)))
+
+    def test_pairs_are_tuples(self):
+        pairs = [outcome_fault(RING), run_order(RING, []), *LOG, *tally_of(RING), touched(RING, [0, 1]),
+                 strengths_before(REST, 0), settle_web(WEB), sweep_row(ROW), *web_tally(WEB)]
+        for pair in pairs:
+            self.assertIsInstance(pair, tuple)
+            self.assertEqual(len(pair), 2)
+        for change in changes_of(RING, [0, 1, 3]) + web_changes(WEB, [0, 1, 3]):
+            self.assertIsInstance(change, tuple)
+
+    def test_big_numbers(self):
+        ring = Beads([10 ** 12] * 119 + [0], [10 ** 9] * 120)
+        self.assertEqual(ring.total(), 120 * 10 ** 9)
+        self.assertEqual(reaches(ring), [10 ** 9] * 118 + [2 * 10 ** 9, 10 ** 9])
+        self.assertEqual(cuttings(ring)[-1], tuple(range(120)))
+        self.assertEqual(settled_cut(Beads([120 * 10 ** 9] + [0] * 119, [10 ** 9] * 120)), (0,))
+
+    def test_somewhat_more_than_120_beads(self):
+        for ring in (True, False):
+            beads = Beads([k % 7 for k in range(150)], [1 + k % 3 for k in range(150)], ring=ring)
+            places = list(range(150))
+            self.assertEqual(wake_all(beads), wake(beads, places))
+            self.assertEqual(web_changes(web_of(beads), places), changes_of(beads, places))
+            self.assertEqual(web_tally(web_of(beads)), tally_of(beads))
+            self.assertIsNone(outcome_fault(wake_all(beads)))
+            self.assertEqual(wake_all(origin_of(wake_all(beads))), wake_all(beads))
+            self.assertIsNotNone(touched(beads, places))
+        order, end = sweep_row(Beads([0] * 150, [150] + [1] * 149, ring=False))
+        self.assertIs(at_rest(end), True)
+        self.assertEqual(run_order(Beads([0] * 150, [150] + [1] * 149, ring=False), order)[0], end)
+
+
+class Examples(unittest.TestCase):
+    def test_beads(self):
+        row = Beads([3, 1, 2, 4]).as_row(2)
+        self.assertEqual([row.strengths, row.lengths, row.ring], [(2, 4, 3, 1), (1, 1, 1, 1), False])
+
+    def test_trains(self):
+        beads = Beads([3, 1, 2, 4])
+        told = [train_of(beads, 0), stopper_of(beads, 0), stopper_of(beads, 3), lords_of(beads)]
+        self.assertEqual(told, [[1, 2], 3, None, [3, 0, 0, None]])
+
+    def test_forest(self):
+        told = [outcome_fault(Beads([2, 2])), origin_of(Beads([3, 1, 1], ring=False)).strengths]
+        self.assertEqual(told, [(0, 1), (1, 0, 0)])
+
+    def test_waking(self):
+        self.assertEqual(changes_of(Beads([3, 1, 2], ring=False), [2, 0, 2]), [(2, 2, 1)])
+
+    def test_tally(self):
+        told = [tally_of(Beads([2, 2])), touched(Beads([2, 2]), [0, 1]), tally_of(Beads([1, 1]))]
+        self.assertEqual(told, [[(2, 2)], (1, 2), [(1, 2)]])
+
+    def test_back(self):
+        told = [strengths_before(Beads([2, 1]), 0), strengths_before(Beads([1, 2]), 0)]
+        self.assertEqual(told, [(2, None), (0, 2)])
+
+    def test_web(self):
+        web = Web([("most", [("sum", 1, [(1, 2)]), ("top", 0, [(1, 5)])]), ("run", 2, [(0, 3), (1, 4)])], [3, 0])
+        self.assertEqual([told_to(web, 0), told_to(web, 1), settle_web(web)[1]], [5, 2, 1])
+
+    def test_arcs(self):
+        self.assertEqual(cuttings(Beads([0, 0, 0, 0])), [(0,), (1,), (2,), (3,), (0, 2), (1, 3), (0, 1, 2, 3)])

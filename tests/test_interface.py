@@ -1,0 +1,51 @@
+"""Each name of the interface is defined in its own file, with its arguments."""
+
+import importlib
+import inspect
+import unittest
+
+FUNCTIONS = {
+    "trains": ["train_of(beads, place)", "reach_of(beads, place)", "stopper_of(beads, place)",
+               "reaches(beads)", "lords_of(beads)", "leaders_of(beads)"],
+    "forest": ["outcome_fault(beads)", "origin_of(beads)"],
+    "waking": ["changes_of(beads, handful)", "wake(beads, handful)", "wake_all(beads)", "restless(beads)",
+               "hungry(beads)", "at_rest(beads)", "run_order(beads, order)", "unwind(beads, log)"],
+    "tally": ["tally_of(beads)", "compare_tallies(one, other)", "touched(beads, handful)"],
+    "back": ["strengths_before(beads, place)", "last_wakers(beads)"],
+    "web": ["told_to(web, being)", "web_changes(web, handful)", "wake_web(web, handful)", "web_tally(web)",
+            "settle_web(web, *, limit=100)", "web_of(beads)"],
+    "sweeps": ["sweep_row(beads)"],
+    "arcs": ["cuttings(beads)", "arc_length(beads, cut)", "settled_cut(beads)", "resting_cut(beads)",
+             "least_arc(beads, *, hand=1)"],
+    "starts": ["is_low(beads)", "is_level(beads)"],
+}
+CLASSES = {
+    "beads.Beads": ["(strengths, lengths=None, *, ring=True)", "total(self)", "greatest(self)",
+                    "with_strength(self, place, strength)", "as_row(self, place)"],
+    "web.Web": ["(looks, strengths)"],
+}
+SIGNS = {"beads.Beads": ["__len__", "__iter__", "__eq__", "__add__", "__mul__"]}
+
+
+class Interface(unittest.TestCase):
+    def test_functions(self):
+        for file, wanted in FUNCTIONS.items():
+            module = importlib.import_module("retinue." + file)
+            for words in wanted:
+                with self.subTest(file=file, words=words):
+                    function = getattr(module, words.partition("(")[0])
+                    self.assertEqual(function.__name__ + str(inspect.signature(function)), words)
+                    self.assertEqual(function.__module__, module.__name__)
+
+    def test_classes(self):
+        for name, (made, *methods) in CLASSES.items():
+            module = importlib.import_module("retinue." + name.partition(".")[0])
+            kind = getattr(module, name.partition(".")[2])
+            self.assertEqual(kind.__module__, module.__name__)
+            self.assertEqual(str(inspect.signature(kind)), made)
+            for words in methods:
+                with self.subTest(kind=name, words=words):
+                    method = vars(kind)[words.partition("(")[0]]
+                    self.assertEqual(method.__name__ + str(inspect.signature(method)), words)
+            for sign in SIGNS.get(name, []):
+                self.assertIn(sign, vars(kind))
