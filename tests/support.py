@@ -67,11 +67,6 @@ def slow_span(beads, place):
     return None
 
 
-def attributes(error):
-    """The kind of an error and its attributes."""
-    return [error.__class__.__name__, vars(error)]
-
-
 def raised(test, kind, call, *args, **more):
     """Check that the call raises exactly this kind of error and return its attributes as a dict."""
     with test.assertRaises(kind) as caught:
