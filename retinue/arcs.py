@@ -67,6 +67,13 @@ def arc_length(beads, cut):
     return length
 
 
+def arcs_of(beads, cut):
+    """Return for each head of the cutting the list of the places of its arc, the head first."""
+    many = len(beads)
+    ends = list(cut[1:]) + [cut[0] + many]
+    return [[place % many for place in range(head, end)] for head, end in zip(cut, ends)]
+
+
 def settled_cut(beads):
     """Return the cutting whose heads are the strongest beads of the settled ring, otherwise None."""
     check_ring(beads)

@@ -73,3 +73,64 @@ def raised(test, kind, call, *args, **more):
         call(*args, **more)
     test.assertIs(caught.exception.__class__, kind)
     return vars(caught.exception)
+
+
+def slow_search(beads, hand):
+    """All strengths to which handfuls of at most so many beads can lead, those of the start too."""
+    chosen = [handful for handful in handfuls(len(beads)) if 0 < len(handful) <= hand]
+    seen, waiting = {beads.strengths}, [beads.strengths]
+    while waiting:
+        now = Beads(waiting.pop(), beads.lengths, ring=beads.ring)
+        for handful in chosen:
+            after = slow_wake(now, handful)
+            if after not in seen:
+                seen.add(after)
+                waiting.append(after)
+    return seen
+
+
+def slow_leaders(beads):
+    """The places of the beads that are in no train."""
+    trains = [slow_train(beads, place) for place in range(len(beads))]
+    return tuple(p for p in range(len(beads)) if not any(p in train for train in trains))
+
+
+def slow_ends(beads, hand):
+    """The tuples of leaders of all standings at rest to which handfuls of at most so many beads can lead."""
+    found = set()
+    for strengths in slow_search(beads, hand):
+        now = Beads(strengths, beads.lengths, ring=beads.ring)
+        if slow_wake(now, range(len(now))) == strengths:
+            found.add(slow_leaders(now))
+    return found
+
+
+def slow_held(beads, place, before):
+    """Whether the sum holds the bead back, by the words of the document."""
+    if all(strength <= length for strength, length in zip(beads.strengths, beads.lengths)):
+        return beads.strengths[place] >= before
+    common = beads.strengths[0]
+    return beads.lengths[place] >= common and before <= common
+
+
+def starts_of(lengths, ring):
+    """Yield the low standings and the level standings with these lengths, the latter of small strengths."""
+    for strengths in product(*[range(length + 1) for length in lengths]):
+        yield Beads(strengths, lengths, ring=ring)
+    for strength in range(sum(lengths) + 2):
+        if strength > min(lengths):
+            yield Beads([strength] * len(lengths), lengths, ring=ring)
+
+
+def small_starts(ring):
+    """Yield low and level standings of many shapes, of up to 4 beads."""
+    for many in range(1, 4):
+        for lengths in product((1, 2, 3), repeat=many):
+            yield from starts_of(lengths, ring)
+    for lengths in ((1, 1, 1, 1), (1, 2, 1, 2), (2, 1, 1, 1), (1, 3, 1, 2), (2, 2, 2, 1)):
+        yield from starts_of(lengths, ring)
+
+
+def mixed(many, most, step=7):
+    """A list of so many numbers from 0 to `most`, in no plain order."""
+    return [(k * k * step + k * 3 + (k * k * k) // 5) % (most + 1) for k in range(many)]

@@ -6,7 +6,12 @@ import unittest
 from retinue.arcs import arc_length, cuttings, least_arc, resting_cut, settled_cut
 from retinue.back import last_wakers, strengths_before
 from retinue.beads import Beads
+from retinue.blocks import block_sums, forced_heads, row_fault, row_plan
+from retinue.ends import cut_fault, ends_of
 from retinue.forest import origin_of, outcome_fault
+from retinue.leading import can_lead, lead_plan, locked_heads, tall_plan
+from retinue.plans import finish, least_wakings, plan_cut
+from retinue.rowends import count_row_ends, most_leaders, row_end_at, row_end_rank
 from retinue.starts import is_level, is_low
 from retinue.sweeps import sweep_row
 from retinue.tally import compare_tallies, tally_of, touched
@@ -19,6 +24,11 @@ RING = Beads([0, 5, 1, 2], [1, 2, 1, 2])
 ROW = Beads([0, 5, 1, 2], [1, 2, 1, 2], ring=False)
 REST = Beads([2, 1, 2, 1])
 OUTCOME = Beads([3, 1, 1], ring=False)
+LEVEL = Beads([3, 3, 3, 3])
+LOW = Beads([0, 0, 1, 2], [1, 2, 1, 4])
+LOW_ROW = Beads([0, 0, 2, 0], [1, 1, 2, 3], ring=False)
+SETTLED = Beads([3, 0, 0, 3], [1, 1, 1, 3])
+TALL = Beads([6, 2, 7, 5], [1, 2, 1, 1])
 LOG = run_order(RING, [[0], [3, 1, 1], []])[1]
 WEB = web_of(RING)
 LOOK = ["all", [["sum", 1, [(0, 2)]], ("run", 1, ((0, 2),))]]
@@ -35,6 +45,12 @@ CALLS = [
     (web_changes, WEB, [3, 0, 3]), (wake_web, WEB, [3, 0, 3]), (web_tally, WEB), (settle_web, WEB),
     (web_of, RING), (sweep_row, ROW), (cuttings, REST), (arc_length, REST, [0, 2]), (settled_cut, REST),
     (resting_cut, REST), (least_arc, REST), (is_low, RING), (is_level, RING),
+    (cut_fault, LEVEL, [0, 2]), (cut_fault, LOW, (0, 3)), (cut_fault, LOW, [2]), (ends_of, LEVEL), (ends_of, LOW),
+    (plan_cut, LEVEL, [0]), (plan_cut, LOW, (0, 3)), (least_wakings, LOW, [0, 3]), (finish, SETTLED),
+    (locked_heads, REST), (locked_heads, RING), (lead_plan, RING), (lead_plan, LEVEL), (can_lead, TALL),
+    (tall_plan, TALL, 0), (block_sums, ROW, [0, 2]), (row_fault, LOW_ROW, [0, 3]), (row_fault, LOW_ROW, (0, 1)),
+    (row_plan, LOW_ROW, [0, 2]), (forced_heads, LOW_ROW), (count_row_ends, LOW_ROW), (row_end_at, LOW_ROW, 1),
+    (row_end_rank, LOW_ROW, [0, 2]), (most_leaders, LOW_ROW),
 ]
 
 
@@ -86,7 +102,7 @@ class Everywhere(unittest.TestCase):
 
     def test_pairs_are_tuples(self):
         pairs = [outcome_fault(RING), run_order(RING, []), *LOG, *tally_of(RING), touched(RING, [0, 1]),
-                 strengths_before(REST, 0), settle_web(WEB), sweep_row(ROW), *web_tally(WEB)]
+                 strengths_before(REST, 0), settle_web(WEB), sweep_row(ROW), *web_tally(WEB), finish(SETTLED)]
         for pair in pairs:
             self.assertIsInstance(pair, tuple)
             self.assertEqual(len(pair), 2)
@@ -146,3 +162,14 @@ class Examples(unittest.TestCase):
 
     def test_arcs(self):
         self.assertEqual(cuttings(Beads([0, 0, 0, 0])), [(0,), (1,), (2,), (3,), (0, 2), (1, 3), (0, 1, 2, 3)])
+
+    def test_ends(self):
+        level = Beads([3, 3, 3, 3, 3, 3])
+        low = Beads([3, 2, 1], [3, 2, 1])
+        told = [cut_fault(level, (0, 2, 4)), cut_fault(level, (0, 2, 4), hand=3), cut_fault(low, (1,))]
+        self.assertEqual(told, [("short", 2, 3), None, ("blocked", 1, 0)])
+
+    def test_rowends(self):
+        row = Beads([2, 1, 2, 1, 3], [2, 1, 2, 1, 3], ring=False)
+        told = [count_row_ends(row), row_end_at(row, 0), row_end_at(row, 1), most_leaders(row)]
+        self.assertEqual(told, [2, (0,), (0, 2, 4), 3])

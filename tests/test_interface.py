@@ -18,6 +18,12 @@ FUNCTIONS = {
     "arcs": ["cuttings(beads)", "arc_length(beads, cut)", "settled_cut(beads)", "resting_cut(beads)",
              "least_arc(beads, *, hand=1)"],
     "starts": ["is_low(beads)", "is_level(beads)"],
+    "ends": ["cut_fault(beads, cut, *, hand=1)", "ends_of(beads, *, hand=1)"],
+    "plans": ["plan_cut(beads, cut, *, hand=1)", "least_wakings(beads, cut)", "finish(beads)"],
+    "leading": ["locked_heads(beads)", "lead_plan(beads)", "can_lead(beads)", "tall_plan(beads, place)"],
+    "blocks": ["block_sums(beads, cut)", "row_fault(beads, cut)", "row_plan(beads, cut)", "forced_heads(beads)"],
+    "rowends": ["count_row_ends(beads)", "row_end_at(beads, index)", "row_end_rank(beads, cut)",
+                "most_leaders(beads)"],
 }
 CLASSES = {
     "beads.Beads": ["(strengths, lengths=None, *, ring=True)", "total(self)", "greatest(self)",
