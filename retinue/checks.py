@@ -1,6 +1,6 @@
 """The checks of arguments that several modules share."""
 
-from retinue.errors import BadPlace, WrongKind
+from retinue.errors import BadPlace, BadSeen, OutOfRange, WrongKind
 
 
 def check_place(many, place):
@@ -25,3 +25,15 @@ def check_row(beads):
     """Raise WrongKind if the standing is a ring."""
     if beads.ring:
         raise WrongKind(True)
+
+
+def check_index(index, count):
+    """Raise OutOfRange unless the index is one of 0 to count - 1."""
+    if not 0 <= index < count:
+        raise OutOfRange(index, count)
+
+
+def check_seen(lengths, seen):
+    """Raise BadSeen unless seen is None or has one item for each length."""
+    if seen is not None and len(seen) != len(lengths):
+        raise BadSeen(len(seen))

@@ -36,12 +36,12 @@ def origin_of(beads):
     if fault is not None:
         first, second = fault
         raise NotOutcome(first, second)
-    depths = _depths_of(beads)
+    depths = depths_of(beads)
     deepest = max(depths)
     return Beads([deepest - depth for depth in depths], beads.lengths, ring=beads.ring)
 
 
-def _depths_of(beads):
+def depths_of(beads):
     """Return for each bead of an outcome the number of other beads whose spans contain it."""
     depths = [0] * len(beads)
     for place in range(len(beads)):

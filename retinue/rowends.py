@@ -2,9 +2,8 @@
 
 from retinue.arcs import offsets_of
 from retinue.blocks import check_row_end
-from retinue.checks import check_row
+from retinue.checks import check_index, check_row
 from retinue.choices import choice_at
-from retinue.errors import OutOfRange
 from retinue.starts import check_start, first_held, holds_of
 
 
@@ -65,8 +64,7 @@ def row_end_at(beads, index):
     """Return the end of the row at this index."""
     block_ends = _checked_ends(beads)
     counts = _counts_of(block_ends, len(beads))
-    if not 0 <= index < counts[(0, 0)]:
-        raise OutOfRange(index, counts[(0, 0)])
+    check_index(index, counts[(0, 0)])
     heads = []
     before = head = 0
     left = index

@@ -7,11 +7,16 @@ from retinue.arcs import arc_length, cuttings, least_arc, resting_cut, settled_c
 from retinue.back import last_wakers, strengths_before
 from retinue.beads import Beads
 from retinue.blocks import block_sums, forced_heads, row_fault, row_plan
+from retinue.books import books_of
 from retinue.ends import cut_fault, ends_of
 from retinue.forest import origin_of, outcome_fault
 from retinue.leading import can_lead, lead_plan, locked_heads, tall_plan
+from retinue.lineage import least_total, lineage_of, most_rounds
 from retinue.plans import finish, least_wakings, plan_cut
+from retinue.rests import count_rests, rest_at, rest_rank
+from retinue.rounds import final_heads, last_change, round_heads, rounds_of
 from retinue.rowends import count_row_ends, most_leaders, row_end_at, row_end_rank
+from retinue.sight import possible, sure_places
 from retinue.starts import is_level, is_low
 from retinue.sweeps import sweep_row
 from retinue.tally import compare_tallies, tally_of, touched
@@ -19,6 +24,7 @@ from retinue.trains import (leaders_of, lords_of, reach_of, reaches, stopper_of,
 from retinue.waking import (at_rest, changes_of, hungry, restless, run_order, unwind, wake,
                             wake_all)
 from retinue.web import (Web, settle_web, told_to, wake_web, web_changes, web_of, web_tally)
+from retinue.words import arc_word, sharp_start, short_start
 
 RING = Beads([0, 5, 1, 2], [1, 2, 1, 2])
 ROW = Beads([0, 5, 1, 2], [1, 2, 1, 2], ring=False)
@@ -29,6 +35,8 @@ LOW = Beads([0, 0, 1, 2], [1, 2, 1, 4])
 LOW_ROW = Beads([0, 0, 2, 0], [1, 1, 2, 3], ring=False)
 SETTLED = Beads([3, 0, 0, 3], [1, 1, 1, 3])
 TALL = Beads([6, 2, 7, 5], [1, 2, 1, 1])
+SHARP = Beads([2, 1, 2, 2, 1])
+SEEN = [None, 2, None]
 LOG = run_order(RING, [[0], [3, 1, 1], []])[1]
 WEB = web_of(RING)
 LOOK = ["all", [["sum", 1, [(0, 2)]], ("run", 1, ((0, 2),))]]
@@ -51,6 +59,11 @@ CALLS = [
     (tall_plan, TALL, 0), (block_sums, ROW, [0, 2]), (row_fault, LOW_ROW, [0, 3]), (row_fault, LOW_ROW, (0, 1)),
     (row_plan, LOW_ROW, [0, 2]), (forced_heads, LOW_ROW), (count_row_ends, LOW_ROW), (row_end_at, LOW_ROW, 1),
     (row_end_rank, LOW_ROW, [0, 2]), (most_leaders, LOW_ROW),
+    (rounds_of, SHARP), (rounds_of, REST), (last_change, SHARP, 0), (round_heads, SHARP), (round_heads, REST),
+    (final_heads, SHARP), (books_of, SHARP), (books_of, REST), (lineage_of, SHARP, 0), (least_total, 3),
+    (most_rounds, 7), (arc_word, 4), (sharp_start, 3), (short_start, 4), (count_rests, [1, 1, 1]),
+    (count_rests, [1, 1, 1], SEEN), (rest_at, [1, 1, 1], 1), (rest_at, (1, 1, 1), 0, SEEN), (rest_rank, OUTCOME),
+    (possible, [1, 1, 1], SEEN, 0), (possible, (1, 1, 1), None, 0), (sure_places, [1, 1, 1], SEEN),
 ]
 
 
@@ -102,7 +115,8 @@ class Everywhere(unittest.TestCase):
 
     def test_pairs_are_tuples(self):
         pairs = [outcome_fault(RING), run_order(RING, []), *LOG, *tally_of(RING), touched(RING, [0, 1]),
-                 strengths_before(REST, 0), settle_web(WEB), sweep_row(ROW), *web_tally(WEB), finish(SETTLED)]
+                 strengths_before(REST, 0), settle_web(WEB), sweep_row(ROW), *web_tally(WEB), finish(SETTLED),
+                 *lineage_of(SHARP, 0), *sure_places([1, 1, 1], SEEN)]
         for pair in pairs:
             self.assertIsInstance(pair, tuple)
             self.assertEqual(len(pair), 2)
@@ -173,3 +187,23 @@ class Examples(unittest.TestCase):
         row = Beads([2, 1, 2, 1, 3], [2, 1, 2, 1, 3], ring=False)
         told = [count_row_ends(row), row_end_at(row, 0), row_end_at(row, 1), most_leaders(row)]
         self.assertEqual(told, [2, (0,), (0, 2, 4), 3])
+
+    def test_rounds(self):
+        beads = Beads([2, 1, 2])
+        self.assertEqual([rounds_of(beads), round_heads(beads)], [[(2, 1, 2), (2, 1, 1), (3, 1, 1)], [[0, 2], [0]]])
+
+    def test_lineage(self):
+        told = [lineage_of(Beads([2, 1, 2, 2, 1]), 0), least_total(4), most_rounds(7)]
+        self.assertEqual(told, [[(3, 3), (2, 2)], 8, 3])
+
+    def test_words(self):
+        told = [arc_word(3), sharp_start(3).strengths, short_start(4).lengths]
+        self.assertEqual(told, ["10010", (2, 1, 2, 2, 1), (2, 1, 2, 3)])
+
+    def test_rests(self):
+        told = [count_rests([1, 1, 1]), rest_at([1, 1, 1], 1).strengths, count_rests([1, 1, 1], [None, 2, None])]
+        self.assertEqual(told, [4, (1, 2, 1), 2])
+
+    def test_sight(self):
+        told = [possible([1, 1, 1], [None, 2, None], 0), sure_places([1, 1, 1], [None, 2, None])]
+        self.assertEqual(told, [[1, 3], [(1, 2), (2, 1)]])

@@ -24,6 +24,12 @@ FUNCTIONS = {
     "blocks": ["block_sums(beads, cut)", "row_fault(beads, cut)", "row_plan(beads, cut)", "forced_heads(beads)"],
     "rowends": ["count_row_ends(beads)", "row_end_at(beads, index)", "row_end_rank(beads, cut)",
                 "most_leaders(beads)"],
+    "rounds": ["rounds_of(beads)", "last_change(beads, place)", "round_heads(beads)", "final_heads(beads)"],
+    "books": ["books_of(beads)"],
+    "lineage": ["lineage_of(beads, place)", "least_total(number)", "most_rounds(total)"],
+    "words": ["arc_word(number)", "sharp_start(number, *, ring=True, extra=0)", "short_start(number)"],
+    "rests": ["count_rests(lengths, seen=None)", "rest_at(lengths, index, seen=None)", "rest_rank(beads)"],
+    "sight": ["possible(lengths, seen, place)", "sure_places(lengths, seen)"],
 }
 CLASSES = {
     "beads.Beads": ["(strengths, lengths=None, *, ring=True)", "total(self)", "greatest(self)",
