@@ -1,9 +1,9 @@
 """Cuttings of a ring into arcs of the same length."""
 
 from retinue.checks import check_ring
-from retinue.errors import BadCut, NotAtRest
+from retinue.errors import BadCut
 from retinue.trains import leaders_of
-from retinue.waking import restless
+from retinue.waking import check_rest
 
 
 def offsets_of(lengths):
@@ -47,7 +47,7 @@ def _cuttings_with(place_at, length, many):
     return found
 
 
-def _common_arc(beads, cut):
+def common_arc(beads, cut):
     """Return the arc length if these places are the heads of a cutting of the ring, otherwise None."""
     if not is_ascending(cut, len(beads)):
         return None
@@ -61,7 +61,7 @@ def _common_arc(beads, cut):
 def arc_length(beads, cut):
     """Return the arc length of the cutting."""
     check_ring(beads)
-    length = _common_arc(beads, cut)
+    length = common_arc(beads, cut)
     if length is None:
         raise BadCut(tuple(cut))
     return length
@@ -78,15 +78,13 @@ def settled_cut(beads):
     """Return the cutting whose heads are the strongest beads of the settled ring, otherwise None."""
     check_ring(beads)
     leaders = leaders_of(beads)
-    return tuple(leaders) if _common_arc(beads, leaders) == beads.greatest() else None
+    return tuple(leaders) if common_arc(beads, leaders) == beads.greatest() else None
 
 
 def resting_cut(beads):
     """Return the cutting of the ring at rest: its leaders are the heads."""
     check_ring(beads)
-    places = restless(beads)
-    if len(places) > 0:
-        raise NotAtRest(places[0])
+    check_rest(beads)
     return tuple(leaders_of(beads))
 
 

@@ -30,12 +30,17 @@ def outcome_fault(beads):
     return None
 
 
-def origin_of(beads):
-    """Return a standing that one round turns into this outcome."""
+def check_outcome(beads):
+    """Raise NotOutcome if the standing is not an outcome."""
     fault = outcome_fault(beads)
     if fault is not None:
         first, second = fault
         raise NotOutcome(first, second)
+
+
+def origin_of(beads):
+    """Return a standing that one round turns into this outcome."""
+    check_outcome(beads)
     depths = depths_of(beads)
     deepest = max(depths)
     return Beads([deepest - depth for depth in depths], beads.lengths, ring=beads.ring)

@@ -2,7 +2,7 @@
 
 from retinue.beads import Beads
 from retinue.checks import check_handful
-from retinue.errors import BadLog
+from retinue.errors import BadLog, NotAtRest
 from retinue.trains import reach_of, reaches
 
 
@@ -61,6 +61,13 @@ def hungry(beads):
 def at_rest(beads):
     """Return whether no bead is restless."""
     return len(restless(beads)) == 0
+
+
+def check_rest(beads):
+    """Raise NotAtRest with the least restless place, if there is one."""
+    places = restless(beads)
+    if len(places) > 0:
+        raise NotAtRest(places[0])
 
 
 def run_order(beads, order):

@@ -1,8 +1,9 @@
 """What the tests share: small standings, and the words of the document as plain slow functions."""
 
-from itertools import product
+from itertools import combinations, product
 
 from retinue.beads import Beads
+from retinue.marks import Marks
 
 LENGTHS = {
     1: [(1,), (3,)],
@@ -134,3 +135,65 @@ def small_starts(ring):
 def mixed(many, most, step=7):
     """A list of so many numbers from 0 to `most`, in no plain order."""
     return [(k * k * step + k * 3 + (k * k * k) // 5) % (most + 1) for k in range(many)]
+
+
+def agrees(row, seen):
+    """Whether the strengths are those that are seen."""
+    return seen is None or all(item is None or item == strength for item, strength in zip(seen, row))
+
+
+def sights(lengths, rows):
+    """Yield several things that can be seen: of some of these rows, and of none."""
+    many = len(lengths)
+    yield None
+    yield [None] * many
+    for row in (rows[0], rows[len(rows) // 2], rows[-1]):
+        for place in range(many):
+            yield [row[p] if p == place else None for p in range(many)]
+            yield tuple(row[p] if p >= place else None for p in range(many))
+            yield [row[p] if p != place else None for p in range(many)]
+    yield [sum(lengths) + 1] + [None] * (many - 1)
+    yield [None] * (many - 1) + [0]
+    yield [rows[0][0]] + [rows[-1][-1] + 1] * (many - 1)
+
+
+def all_marks(sizes):
+    """Yield all marks on rings of these sizes."""
+    for size in sizes:
+        for many in range(1, size + 1):
+            for places in combinations(range(size), many):
+                yield Marks(size, places)
+
+
+def slow_gap(size, places, place):
+    """One step after the other from the mark until the next mark comes."""
+    steps = 1
+    while (place + steps) % size not in places:
+        steps += 1
+    return steps
+
+
+def slow_wipes(size, places):
+    """A dict: for each mark that may wipe, the tuple of the places that are left then."""
+    found = {}
+    for place in places:
+        gap = slow_gap(size, places, place)
+        following = (place + gap) % size
+        if len(places) > 1 and gap > slow_gap(size, places, following):
+            found[place] = tuple(other for other in places if other != following)
+    return found
+
+
+def slow_mark_ends(size, places):
+    """The tuples of places in which wipings can end."""
+    seen, waiting, ends = {places}, [places], set()
+    while waiting:
+        now = waiting.pop()
+        wipes = slow_wipes(size, now)
+        if not wipes:
+            ends.add(now)
+        for left in wipes.values():
+            if left not in seen:
+                seen.add(left)
+                waiting.append(left)
+    return ends

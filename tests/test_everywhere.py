@@ -10,10 +10,15 @@ from retinue.blocks import block_sums, forced_heads, row_fault, row_plan
 from retinue.books import books_of
 from retinue.ends import cut_fault, ends_of
 from retinue.forest import origin_of, outcome_fault
+from retinue.hands import good_wipes, last_hand
 from retinue.leading import can_lead, lead_plan, locked_heads, tall_plan
 from retinue.lineage import least_total, lineage_of, most_rounds
+from retinue.markends import mark_ends, mark_fault, ring_of_marks, wipe_plan
+from retinue.marks import Marks, wipe, wipers_of
+from retinue.orders import count_orders, order_at, woken_once
 from retinue.plans import finish, least_wakings, plan_cut
 from retinue.rests import count_rests, rest_at, rest_rank
+from retinue.ringrests import count_ring_rests, ring_rest_at, ring_rest_rank
 from retinue.rounds import final_heads, last_change, round_heads, rounds_of
 from retinue.rowends import count_row_ends, most_leaders, row_end_at, row_end_rank
 from retinue.sight import possible, sure_places
@@ -30,6 +35,7 @@ RING = Beads([0, 5, 1, 2], [1, 2, 1, 2])
 ROW = Beads([0, 5, 1, 2], [1, 2, 1, 2], ring=False)
 REST = Beads([2, 1, 2, 1])
 OUTCOME = Beads([3, 1, 1], ring=False)
+SOLE = Beads([2, 1, 5, 1, 1])
 LEVEL = Beads([3, 3, 3, 3])
 LOW = Beads([0, 0, 1, 2], [1, 2, 1, 4])
 LOW_ROW = Beads([0, 0, 2, 0], [1, 1, 2, 3], ring=False)
@@ -37,6 +43,7 @@ SETTLED = Beads([3, 0, 0, 3], [1, 1, 1, 3])
 TALL = Beads([6, 2, 7, 5], [1, 2, 1, 1])
 SHARP = Beads([2, 1, 2, 2, 1])
 SEEN = [None, 2, None]
+MARKS = Marks(6, [0, 2, 3, 5])
 LOG = run_order(RING, [[0], [3, 1, 1], []])[1]
 WEB = web_of(RING)
 LOOK = ["all", [["sum", 1, [(0, 2)]], ("run", 1, ((0, 2),))]]
@@ -64,12 +71,17 @@ CALLS = [
     (most_rounds, 7), (arc_word, 4), (sharp_start, 3), (short_start, 4), (count_rests, [1, 1, 1]),
     (count_rests, [1, 1, 1], SEEN), (rest_at, [1, 1, 1], 1), (rest_at, (1, 1, 1), 0, SEEN), (rest_rank, OUTCOME),
     (possible, [1, 1, 1], SEEN, 0), (possible, (1, 1, 1), None, 0), (sure_places, [1, 1, 1], SEEN),
+    (count_ring_rests, [1, 1, 1]), (count_ring_rests, (1, 2, 1), SEEN), (ring_rest_at, [1, 1, 1], 1),
+    (ring_rest_at, [1, 1, 1], 0, SEEN), (ring_rest_rank, REST), (woken_once, [1, 2, 1], [2, 0, 1]),
+    (count_orders, OUTCOME), (order_at, OUTCOME, 0), (order_at, SOLE, 1), (Marks, 6, [5, 0, 3]), (wipers_of, MARKS),
+    (wipe, MARKS, 0), (mark_fault, MARKS, [0, 3]), (mark_fault, MARKS, (2, 5)), (mark_ends, MARKS),
+    (wipe_plan, MARKS, [3]), (ring_of_marks, MARKS), (last_hand, MARKS), (good_wipes, Marks(6, [0, 1, 4])),
 ]
 
 
 def plain(value):
-    """The value with standings and webs as dicts, and lists and tuples kept apart."""
-    if isinstance(value, (Beads, Web)):
+    """The value with standings, webs and marks as dicts, and lists and tuples kept apart."""
+    if isinstance(value, (Beads, Web, Marks)):
         return {name: plain(worth) for name, worth in vars(value).items()}
     if isinstance(value, (list, tuple)):
         return (value.__class__.__name__, [plain(item) for item in value])
@@ -99,9 +111,9 @@ class Everywhere(unittest.TestCase):
             with self.subTest(call=call, args=args):
                 first = call(*args)
                 before = copy.deepcopy(plain(first))
-                holders = copy.deepcopy([plain(args), plain(RING), plain(WEB)])
+                holders = copy.deepcopy([plain(args), plain(RING), plain(WEB), plain(MARKS)])
                 spoil(first)
-                self.assertEqual([plain(args), plain(RING), plain(WEB)], holders)
+                self.assertEqual([plain(args), plain(RING), plain(WEB), plain(MARKS)], holders)
                 self.assertEqual(plain(call(*args)), before)
 
     def test_a_list_and_a_tuple_are_taken_alike(self):
@@ -207,3 +219,16 @@ class Examples(unittest.TestCase):
     def test_sight(self):
         told = [possible([1, 1, 1], [None, 2, None], 0), sure_places([1, 1, 1], [None, 2, None])]
         self.assertEqual(told, [[1, 3], [(1, 2), (2, 1)]])
+
+    def test_ringrests(self):
+        told = [count_ring_rests([1, 1, 1]), ring_rest_at([1, 1, 1], 3).strengths, ring_rest_at([1, 1, 1], 6).strengths]
+        self.assertEqual(told, [7, (1, 3, 2), (1, 1, 1)])
+
+    def test_orders(self):
+        row = woken_once([1, 1, 1], [2, 0, 1])
+        told = [row.strengths, count_orders(row), order_at(row, 0), order_at(row, 1)]
+        self.assertEqual(told, [(1, 2, 1), 2, [0, 2, 1], [2, 0, 1]])
+
+    def test_markends(self):
+        marks = Marks(5, [3, 0])
+        self.assertEqual([marks.gaps, mark_ends(marks), mark_fault(marks, (3,))], [(3, 2), [(0,)], ("blocked", 3, 0)])

@@ -30,13 +30,21 @@ FUNCTIONS = {
     "words": ["arc_word(number)", "sharp_start(number, *, ring=True, extra=0)", "short_start(number)"],
     "rests": ["count_rests(lengths, seen=None)", "rest_at(lengths, index, seen=None)", "rest_rank(beads)"],
     "sight": ["possible(lengths, seen, place)", "sure_places(lengths, seen)"],
+    "ringrests": ["count_ring_rests(lengths, seen=None)", "ring_rest_at(lengths, index, seen=None)",
+                  "ring_rest_rank(beads)"],
+    "orders": ["woken_once(lengths, order, *, ring=False)", "count_orders(beads)", "order_at(beads, index)"],
+    "marks": ["wipers_of(marks)", "wipe(marks, place)"],
+    "markends": ["mark_fault(marks, end)", "mark_ends(marks)", "wipe_plan(marks, end)", "ring_of_marks(marks)"],
+    "hands": ["last_hand(marks)", "good_wipes(marks)"],
 }
 CLASSES = {
     "beads.Beads": ["(strengths, lengths=None, *, ring=True)", "total(self)", "greatest(self)",
                     "with_strength(self, place, strength)", "as_row(self, place)"],
     "web.Web": ["(looks, strengths)"],
+    "marks.Marks": ["(size, places)"],
 }
-SIGNS = {"beads.Beads": ["__len__", "__iter__", "__eq__", "__add__", "__mul__"]}
+SIGNS = {"beads.Beads": ["__len__", "__iter__", "__eq__", "__add__", "__mul__"],
+         "marks.Marks": ["__len__", "__iter__", "__eq__"]}
 
 
 class Interface(unittest.TestCase):

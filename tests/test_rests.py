@@ -5,7 +5,7 @@ from retinue.beads import Beads
 from retinue.errors import BadSeen, NotAtRest, OutOfRange, WrongKind
 from retinue.rests import count_rests, rest_at, rest_rank
 from retinue.waking import at_rest, restless
-from tests.support import mixed, raised, slow_wake, standings
+from tests.support import agrees, mixed, raised, sights, slow_wake, standings
 
 SHAPES = [(1,), (4,), (1, 1), (2, 1), (1, 3), (1, 1, 1), (2, 1, 1), (1, 2, 3), (3, 2, 1), (1, 2, 1, 3), (1, 1, 1, 1),
           (3, 1, 1, 1), (1, 1, 2, 1, 1), (2, 1, 2, 1, 3), (1, 1, 1, 1, 1, 1), (1, 2, 3, 1, 2, 3)]
@@ -20,25 +20,6 @@ def slow_rests(lengths):
         if slow_wake(Beads(strengths, lengths, ring=False), range(many)) == strengths:
             found.append(strengths)
     return found
-
-
-def sights(lengths, rows):
-    """Yield several things that can be seen: of some row at rest, and of none."""
-    many = len(lengths)
-    yield None
-    yield [None] * many
-    for row in (rows[0], rows[len(rows) // 2], rows[-1]):
-        for place in range(many):
-            yield [row[p] if p == place else None for p in range(many)]
-            yield tuple(row[p] if p >= place else None for p in range(many))
-            yield [row[p] if p != place else None for p in range(many)]
-    yield [sum(lengths) + 1] + [None] * (many - 1)
-    yield [None] * (many - 1) + [0]
-    yield [rows[0][0]] + [rows[-1][-1] + 1] * (many - 1)
-
-
-def agrees(row, seen):
-    return seen is None or all(item is None or item == strength for item, strength in zip(seen, row))
 
 
 class Rests(unittest.TestCase):
