@@ -33,10 +33,10 @@ def changes_of(beads, handful):
 
 def wake(beads, handful):
     """Return the standing after the handful has woken."""
-    return _changed(beads, changes_of(beads, handful))
+    return changed(beads, changes_of(beads, handful))
 
 
-def _changed(beads, changes):
+def changed(beads, changes):
     """Return the standing after the changes."""
     return Beads(strengths_after(beads.strengths, changes), beads.lengths, ring=beads.ring)
 
@@ -77,7 +77,7 @@ def run_order(beads, order):
     for handful in order:
         changes = changes_of(now, handful)
         log.append((tuple(sorted(set(handful))), changes))
-        now = _changed(now, changes)
+        now = changed(now, changes)
     return now, log
 
 

@@ -26,14 +26,17 @@ def _first_strengths(total, ring, extra):
     return [1] * extra
 
 
+def arc_starts(word):
+    """Return the ascending list of the places of the first beads of the arcs of the word."""
+    # Only a 0 behind a 1 is the second bead of an arc.
+    return [place for place in range(len(word)) if place == 0 or word[place - 1] != "1"]
+
+
 def _arc_strengths(word):
     """Return the strengths of the beads of the arcs: 2 for the first bead of each arc, 1 for the others."""
-    strengths = []
-    before = "0"
-    for sign in word:
-        # Only a 0 behind a 1 is the second bead of an arc.
-        strengths.append(1 if before == "1" else 2)
-        before = sign
+    strengths = [1] * len(word)
+    for place in arc_starts(word):
+        strengths[place] = 2
     return strengths
 
 

@@ -8,13 +8,19 @@ from retinue.back import last_wakers, strengths_before
 from retinue.beads import Beads
 from retinue.blocks import block_sums, forced_heads, row_fault, row_plan
 from retinue.books import books_of
+from retinue.desk import Desk
 from retinue.ends import cut_fault, ends_of
+from retinue.even import even_marks, golden_marks, is_golden, remainders
 from retinue.forest import origin_of, outcome_fault
 from retinue.hands import good_wipes, last_hand
+from retinue.journal import Journal
 from retinue.leading import can_lead, lead_plan, locked_heads, tall_plan
 from retinue.lineage import least_total, lineage_of, most_rounds
+from retinue.lookers import lineage_fault, log_fault, order_fault, paper_fault, wipe_fault
 from retinue.markends import mark_ends, mark_fault, ring_of_marks, wipe_plan
+from retinue.markrounds import before_at, count_before, mark_round, mark_rounds
 from retinue.marks import Marks, wipe, wipers_of
+from retinue.notation import read_beads, read_order, write_beads, write_order
 from retinue.orders import count_orders, order_at, woken_once
 from retinue.plans import finish, least_wakings, plan_cut
 from retinue.rests import count_rests, rest_at, rest_rank
@@ -76,12 +82,18 @@ CALLS = [
     (count_orders, OUTCOME), (order_at, OUTCOME, 0), (order_at, SOLE, 1), (Marks, 6, [5, 0, 3]), (wipers_of, MARKS),
     (wipe, MARKS, 0), (mark_fault, MARKS, [0, 3]), (mark_fault, MARKS, (2, 5)), (mark_ends, MARKS),
     (wipe_plan, MARKS, [3]), (ring_of_marks, MARKS), (last_hand, MARKS), (good_wipes, Marks(6, [0, 1, 4])),
+    (mark_round, MARKS), (mark_rounds, MARKS), (count_before, MARKS), (before_at, Marks(9, [5, 0]), 2),
+    (even_marks, 8, 5), (remainders, 60, 36), (golden_marks, 3), (is_golden, MARKS), (write_beads, RING),
+    (read_beads, "row 3 1*2 0"), (write_order, [[3, 0, 3], ()]), (read_order, "0,3 - 2"), (Journal, RING),
+    (order_fault, LEVEL, [[3, 1, 1], (0,)], [0, 2]), (order_fault, LEVEL, ([1], [2, 9]), (0, 2)), (log_fault, RING, LOG),
+    (paper_fault, [[(0, 1)], [(0, 2), (1, 1)]]), (lineage_fault, SHARP, 0, [(3, 3), (2, 2)]),
+    (wipe_fault, MARKS, [0, 3], [0, 3]), (wipe_fault, MARKS, [0], (0, 3)),
 ]
 
 
 def plain(value):
-    """The value with standings, webs and marks as dicts, and lists and tuples kept apart."""
-    if isinstance(value, (Beads, Web, Marks)):
+    """The value with standings, webs, marks and journals as dicts, and lists and tuples kept apart."""
+    if isinstance(value, (Beads, Web, Marks, Journal)):
         return {name: plain(worth) for name, worth in vars(value).items()}
     if isinstance(value, (list, tuple)):
         return (value.__class__.__name__, [plain(item) for item in value])
@@ -232,3 +244,20 @@ class Examples(unittest.TestCase):
     def test_markends(self):
         marks = Marks(5, [3, 0])
         self.assertEqual([marks.gaps, mark_ends(marks), mark_fault(marks, (3,))], [(3, 2), [(0,)], ("blocked", 3, 0)])
+
+    def test_markrounds(self):
+        marks = Marks(5, [0])
+        self.assertEqual([count_before(marks), before_at(marks, 0).gaps, before_at(marks, 4).gaps],
+                         [5, (2, 1, 1, 1), (5,)])
+
+    def test_even(self):
+        self.assertEqual([even_marks(5, 2).places, remainders(60, 36), golden_marks(2).gaps],
+                         [(0, 3), [36, 24, 12], (2, 1, 2)])
+
+    def test_notation(self):
+        self.assertEqual([write_beads(Beads([3, 1, 0], [1, 2, 1])), read_order("0,3 - 2")],
+                         ["ring 3 1*2 0", [(0, 3), (), (2,)]])
+
+    def test_desk(self):
+        told = Desk().tell_all(["new a ring 2 1 2", "wake a 2 0", "show a", "heads a", "undo a", "show a", "rest a"])
+        self.assertEqual(told, ["ok", "2", "ring 3 1 1", "0", "1", "ring 2 1 1", "no"])

@@ -36,15 +36,23 @@ FUNCTIONS = {
     "marks": ["wipers_of(marks)", "wipe(marks, place)"],
     "markends": ["mark_fault(marks, end)", "mark_ends(marks)", "wipe_plan(marks, end)", "ring_of_marks(marks)"],
     "hands": ["last_hand(marks)", "good_wipes(marks)"],
+    "markrounds": ["mark_round(marks)", "mark_rounds(marks)", "count_before(marks)", "before_at(marks, index)"],
+    "even": ["even_marks(size, many)", "remainders(size, many)", "golden_marks(number)", "is_golden(marks)"],
+    "notation": ["write_beads(beads)", "read_beads(text)", "write_order(order)", "read_order(text)"],
+    "lookers": ["order_fault(beads, order, cut)", "log_fault(beads, log)", "paper_fault(paper)",
+                "lineage_fault(beads, place, lineage)", "wipe_fault(marks, plan, end)"],
 }
 CLASSES = {
     "beads.Beads": ["(strengths, lengths=None, *, ring=True)", "total(self)", "greatest(self)",
                     "with_strength(self, place, strength)", "as_row(self, place)"],
     "web.Web": ["(looks, strengths)"],
     "marks.Marks": ["(size, places)"],
+    "journal.Journal": ["(start)", "wake(self, handful)", "undo(self)", "redo(self)", "tallies(self)",
+                        "perform(self, order, *, to_rest=False)", "history(self)"],
+    "desk.Desk": ["()", "tell(self, line)", "tell_all(self, lines)", "names(self)", "journal(self, name)"],
 }
 SIGNS = {"beads.Beads": ["__len__", "__iter__", "__eq__", "__add__", "__mul__"],
-         "marks.Marks": ["__len__", "__iter__", "__eq__"]}
+         "marks.Marks": ["__len__", "__iter__", "__eq__"], "journal.Journal": ["__len__", "__iter__"]}
 
 
 class Interface(unittest.TestCase):
